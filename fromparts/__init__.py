@@ -1,0 +1,1 @@
+"""Fromparts: what can be put together from typed parts."""

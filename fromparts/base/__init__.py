@@ -1,0 +1,1 @@
+"""Words, types, and what is made of them."""
