@@ -8,6 +8,7 @@ import re
 import tokenize
 import unittest
 import warnings
+from functools import lru_cache
 from pathlib import Path
 
 ROOT = Path(__file__).resolve().parent.parent
@@ -29,10 +30,12 @@ def files():
     return sorted(path for path in PACKAGE.rglob("*") if path.is_file() and "__pycache__" not in path.parts)
 
 
+@lru_cache(maxsize=None)
 def each_tree():
     return [(path.relative_to(ROOT), ast.parse(path.read_text())) for path in files()]
 
 
+@lru_cache(maxsize=None)
 def each_node(kinds):
     return [(path, node) for path, tree in each_tree() for node in ast.walk(tree) if isinstance(node, kinds)]
 
@@ -160,6 +163,132 @@ class Code(unittest.TestCase):
             own = [one.name for one in node.body if isinstance(one, ast.FunctionDef)]
             if "__getitem__" in own:
                 self.assertIn("__iter__", own, (path, node.name))
+
+
+def is_generator(node):
+    return any(isinstance(one, (ast.Yield, ast.YieldFrom)) for one in ast.walk(node))
+
+
+def functions():
+    return [node for _, node in each_node(ast.FunctionDef)]
+
+
+def methods_with(text):
+    """The names of the methods with this decorator, or with none for an empty text."""
+    found = []
+    for _, node in each_node(ast.ClassDef):
+        for one in node.body:
+            if isinstance(one, ast.FunctionDef) and " ".join(map(ast.unparse, one.decorator_list)) == text:
+                found.append(one.name)
+    return set(found)
+
+
+class Package(unittest.TestCase):
+    """Rules that compare several files, or several classes."""
+
+    def test_no_file_imports_itself_through_others(self):
+        above = {}
+        for path, tree in each_tree():
+            name = ".".join(path.with_suffix("").parts)
+            above[name] = {node.module for node in tree.body if isinstance(node, ast.ImportFrom)} - LIBRARY
+        done = set()
+        while len(done) < len(above):
+            free = [name for name in above if name not in done and above[name] <= done]
+            self.assertTrue(free, sorted(set(above) - done))
+            done.update(free)
+
+    def test_no_local_name_of_an_import_or_a_class(self):
+        for path, tree in each_tree():
+            outer = {part.name for node in tree.body if isinstance(node, ast.ImportFrom) for part in node.names}
+            outer |= {node.name for node in tree.body if isinstance(node, ast.ClassDef)}
+            for node in ast.walk(tree):
+                if isinstance(node, ast.arg):
+                    self.assertNotIn(node.arg, outer, path)
+                elif isinstance(node, ast.Name) and isinstance(node.ctx, ast.Store):
+                    self.assertNotIn(node.id, outer, path)
+
+    def test_names_at_module_level_are_bound_once_and_used(self):
+        for path, tree in each_tree():
+            names = [part.name for node in tree.body if isinstance(node, ast.ImportFrom) for part in node.names]
+            names += [node.name for node in tree.body if isinstance(node, (ast.FunctionDef, ast.ClassDef))]
+            names += [node.targets[0].id for node in tree.body if isinstance(node, ast.Assign)]
+            self.assertEqual(len(set(names)), len(names), path)
+            read = {node.id for node in ast.walk(tree) if isinstance(node, ast.Name) and isinstance(node.ctx, ast.Load)}
+            for node in tree.body:
+                if isinstance(node, ast.ImportFrom):
+                    self.assertEqual({part.name for part in node.names} - read, set(), path)
+                elif isinstance(node, ast.FunctionDef) and node.name.startswith("_"):
+                    self.assertIn(node.name, read, path)
+
+    def test_names_of_properties_methods_and_attributes(self):
+        properties, plain = methods_with("property"), methods_with("")
+        others = methods_with("classmethod") | methods_with("staticmethod")
+        stored = {node.attr for _, node in each_node(ast.Attribute) if isinstance(node.ctx, ast.Store)}
+        builtin = {name for kind in (str, int, list, dict, tuple, set, bytes) for name in dir(kind)}
+        self.assertEqual(properties & plain, set())
+        self.assertEqual(others & (plain | properties), set())
+        self.assertEqual(stored & (plain | others), set())
+        self.assertEqual((properties | others) & builtin, set())
+        self.assertNotIn("keys", plain | stored)
+        for name in (plain & builtin) - METHODS:
+            self.assertTrue(name == "upper" or ARITHMETIC.fullmatch(name), name)
+
+    def test_generators(self):
+        made = [node.name for node in functions() if is_generator(node)]
+        names = [node.name for node in functions()]
+        self.assertEqual([name for name in made if names.count(name) > 1], [])
+        taken = set()
+        for _, node in each_node((ast.For, ast.comprehension)):
+            taken.add(node.iter)
+        for _, node in each_node(ast.Call):
+            if isinstance(node.func, ast.Name) and node.func.id in made:
+                self.assertEqual([one.__class__ for one in node.args], [ast.Name] * len(node.args))
+        iterated = {ast.dump(node) for node in taken}
+        for path, node in each_node(ast.Call):
+            if isinstance(node.func, ast.Name) and node.func.id in made:
+                self.assertIn(ast.dump(node), iterated, path)
+        for node in functions():
+            if is_generator(node):
+                self.assertFalse([one for one in ast.walk(node) if isinstance(one, (ast.Try, ast.With))], node.name)
+
+    def test_sets_are_used_on_the_spot(self):
+        for path, tree in each_tree():
+            for node in ast.walk(tree):
+                for inner in ast.iter_child_nodes(node):
+                    if isinstance(inner, ast.Call) and isinstance(inner.func, ast.Name) and inner.func.id == "set":
+                        good = isinstance(node, ast.Call) and node.func.id in ("sorted", "len")
+                        self.assertTrue(good or isinstance(node, ast.Compare), (path, ast.unparse(node)))
+                    self.assertNotIsInstance(inner, ast.SetComp, path)
+
+    def test_powers_and_stars(self):
+        for path, node in each_node(ast.BinOp):
+            if isinstance(node.op, ast.Pow):
+                self.assertIsInstance(node.right, ast.Constant, path)
+        for path, node in each_node(ast.Call):
+            for one in node.args:
+                if isinstance(one, ast.Starred):
+                    self.assertIsInstance(one.value, ast.Name, path)
+
+    def test_methods_of_builtin_values(self):
+        allowed = set("""append clear copy count endswith extend find get index insert isalnum isalpha isdigit islower
+            isspace isupper items join ljust lower lstrip partition pop remove replace reverse rfind rjust rpartition
+            rsplit rstrip setdefault split splitlines startswith strip update upper values zfill bit_length add discard
+            __init__""".split())
+        own = {node.name for node in functions()}
+        for path, node in each_node(ast.Call):
+            if isinstance(node.func, ast.Attribute):
+                self.assertIn(node.func.attr, own | allowed, path)
+
+    def test_attributes_that_are_read_are_stored(self):
+        stored = {node.attr for _, node in each_node(ast.Attribute) if isinstance(node.ctx, ast.Store)}
+        known = stored | {node.name for node in functions()}
+        for path, node in each_node(ast.Attribute):
+            if node.attr not in known and not self.is_called(path, node):
+                self.fail((path, node.attr))
+
+    def is_called(self, path, node):
+        calls = [one.func for _, tree in each_tree() for one in ast.walk(tree) if isinstance(one, ast.Call)]
+        return any(isinstance(one, ast.Attribute) and one.attr == node.attr for one in calls)
 
 
 if __name__ == "__main__":

@@ -6,6 +6,7 @@ from fromparts import errors
 from fromparts.base import types
 from fromparts.base.types import MAX_ORDER, MAX_PLACES, Type
 from fromparts.errors import InvalidNumber, InvalidOperation, InvalidType, InvalidWord
+from cases import Case, not_words
 from trees import (FIFTEEN, ORDER_FOUR, SAMPLE, atoms_with, built, is_small, order_of, parts_of, places_of,
                    small_trees, text_of, trees, with_names, with_put)
 from values import all_values, same, shown
@@ -24,19 +25,6 @@ def not_types():
 def not_counts():
     """Values that are no integers from 0 to 14, and so of no argument."""
     return [value for value in all_values() if value.__class__ is not int or not 0 <= value <= 14]
-
-
-def not_words():
-    return [value for value in all_values() if not isinstance(value, str)] + ["", "A", "a1", "abcdefghi", "a\n", "x0"]
-
-
-class Case(unittest.TestCase):
-    def refused(self, error, call, *arguments):
-        """That a call raises just this class of errors; the error."""
-        with self.assertRaises(error, msg=shown(arguments)) as caught:
-            call(*arguments)
-        self.assertIs(caught.exception.__class__, error, shown(arguments))
-        return caught.exception
 
 
 class Interface(Case):

@@ -1,5 +1,7 @@
 """Values of every sort that an argument can have, and ways to compare them."""
 
+from fromparts.base.libraries import Library
+from fromparts.base.programs import Program
 from fromparts.base.types import Type
 from fromparts.errors import InvalidNumber, InvalidWord
 
@@ -23,7 +25,8 @@ CONTAINERS = [(), ("a",), (1, 2), [], ["a"], [1, [2]], {}, {"a": "b"}, {1: [2], 
 
 
 def objects():
-    return [Type.plain("a"), Type.read("a -> b"), InvalidWord("a"), InvalidNumber([1])]
+    return [Type.plain("a"), Type.read("a -> b"), InvalidWord("a"), InvalidNumber([1]), Library(),
+            Library.read("f : a -> b"), Program(((0, "a", 0),)), Program.read("\\x0. f x0")]
 
 
 def all_values():

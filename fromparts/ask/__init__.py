@@ -1,0 +1,1 @@
+"""Questions: which types have programs, and plans for these."""
