@@ -162,3 +162,96 @@ def is_borne(reach, truths, world, wanted):
     inputs, atom = wanted
     return all(atom in truths[other] for other in reach[world]
                if all(is_borne(reach, truths, other, one) for one in inputs))
+
+
+def whole_steps(first):
+    """For each usable question the subquestions of its choices all of whose subquestions are answered."""
+    answered = ranks_of(first)
+    return {question: [one for several in choices_of(question).values() if all(inner in answered for inner in several)
+                       for one in several] for question in usable_of(first)}
+
+
+def is_endless(first):
+    """Whether some question comes up within itself in a program: by all steps that lead on from it."""
+    steps = whole_steps(first)
+    for question in steps:
+        found = list(steps[question])
+        for one in found:
+            found.extend(inner for inner in steps[one] if inner not in found)
+        if question in found:
+            return True
+    return False
+
+
+def total(library, goal):
+    """The number of all programs of a goal of which there are not endlessly many."""
+    return total_in(parts_of(library), (), tree(goal))
+
+
+@lru_cache(maxsize=None)
+def total_in(parts, scope, wanted):
+    scope = scope + wanted[0]
+    kinds = [kind for _, kind in parts] + list(scope)
+    number = 0
+    for kind in kinds:
+        if kind[1] == wanted[1] and all(height((frozenset(kinds) | frozenset(one[0]), one[1]), 60) for one in kind[0]):
+            ways = 1
+            for one in kind[0]:
+                ways *= total_in(parts, scope, one)
+            number += ways
+    return number
+
+
+class Named:
+    """A program as a tree whose binders have names of their own: the node, its binders, and its arguments."""
+
+    def __init__(self, nodes):
+        self.fresh = itertools.count()
+        self.place = 0
+        self.nodes = nodes
+        self.root = self.tree_at(())
+
+    def tree_at(self, scope):
+        place = self.place
+        binders, head, many = self.nodes[place]
+        self.place += 1
+        names = tuple(next(self.fresh) for _ in range(binders))
+        scope += names
+        named = scope[int(head[1:])] if head[0] == "x" and len(head) > 1 else head
+        return place, names, named, [self.tree_at(scope) for _ in range(many)]
+
+    def pumped(self, outer, inner, times):
+        """The nodes when the head and the arguments at the outer place stand at the inner one so many times."""
+        below = self.at(self.root, outer)
+
+        def copy(node, renamed, left):
+            place, names, head, several = node
+            fresh = {name: next(self.fresh) for name in names}
+            renamed = {**renamed, **fresh}
+            if place == inner and left > 0:
+                # What stands at the outer place knows the variables that are bound there and above only.
+                _, _, other, arguments = below
+                return place, tuple(fresh.values()), other, [copy(one, {}, left - 1) for one in arguments]
+            return place, tuple(fresh.values()), renamed.get(head, head), [copy(one, renamed, left) for one in several]
+
+        def changed(node):
+            place, names, head, several = node
+            if place == outer:
+                return place, names, head, [copy(one, {}, times) for one in several]
+            return place, names, head, [changed(one) for one in several]
+
+        return self.nodes_of(changed(self.root), {})
+
+    def at(self, node, place):
+        if node[0] == place:
+            return node
+        return next((found for found in (self.at(one, place) for one in node[3]) if found), None)
+
+    def nodes_of(self, node, levels):
+        _, names, head, several = node
+        levels = {**levels, **{name: len(levels) + at for at, name in enumerate(names)}}
+        told_head = head if isinstance(head, str) else f"x{levels[head]}"
+        row = ((len(names), told_head, len(several)),)
+        for one in several:
+            row += self.nodes_of(one, levels)
+        return row

@@ -1,9 +1,12 @@
 """Values of every sort that an argument can have, and ways to compare them."""
 
+from fromparts.ask.questions import Questions
 from fromparts.base.libraries import Library
 from fromparts.base.programs import Program
 from fromparts.base.types import Type
+from fromparts.count.listing import Listing
 from fromparts.errors import InvalidNumber, InvalidWord
+from fromparts.room.rooms import Room
 
 
 def nested(depth):
@@ -26,7 +29,8 @@ CONTAINERS = [(), ("a",), (1, 2), [], ["a"], [1, [2]], {}, {"a": "b"}, {1: [2], 
 
 def objects():
     return [Type.plain("a"), Type.read("a -> b"), InvalidWord("a"), InvalidNumber([1]), Library(),
-            Library.read("f : a -> b"), Program(((0, "a", 0),)), Program.read("\\x0. f x0")]
+            Library.read("f : a -> b"), Program(((0, "a", 0),)), Program.read("\\x0. f x0"),
+            Room(((0,),), ((),)), Questions(Library(), Type.plain("a")), Listing(Library(), Type.plain("a"), 1)]
 
 
 def all_values():

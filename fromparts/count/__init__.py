@@ -1,0 +1,1 @@
+"""How many programs there are, and all of them in order."""

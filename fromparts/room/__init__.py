@@ -1,0 +1,1 @@
+"""Rooms: small models, in which a wish does not hold."""
