@@ -148,6 +148,13 @@ class Plans(Case):
             else:
                 self.assertTrue(same(list(plans(library, goal)), sorted(due, key=row_of)))
 
+    def test_questions_that_are_asked_on_several_ways(self):
+        library = Library.read("p : a -> b -> c", "q : b -> a", "r : b", "s : d -> b", "t : d", "u : a")
+        goal = Type.plain("c")
+        due = [as_told(taken) for taken in closed_dicts(first_of(library, goal))]
+        self.assertEqual(len(due), 4)
+        self.assertTrue(same(list(plans(library, goal)), sorted(due, key=row_of)))
+
     def test_which_dicts_are_plans(self):
         for library, goal in tiny_goals()[:40]:
             first = first_of(library, goal)

@@ -1,12 +1,13 @@
 import copy
 import unittest
+from unittest import mock
 
 from fromparts.ask.building import least_size
 from fromparts.ask.questions import Questions, builds
 from fromparts.base.libraries import Library
 from fromparts.base.programs import Program, is_program, question_at
 from fromparts.base.types import Type
-from fromparts.count import counts
+from fromparts.count import counts, tally
 from fromparts.count.counts import (count, count_of, count_paper, counts_upto, is_count_paper, pumped,
                                     usable_questions)
 from fromparts.errors import (InvalidLibrary, InvalidNumber, InvalidOperation, InvalidProgram, InvalidType, TooMany)
@@ -181,10 +182,39 @@ class Numbers(Case):
                                           .with_part("y", Type.read("(d -> d -> q) -> q"))
                                           .with_part("x", Type.read("d -> q -> q -> q")), Q, 40).limit, 20000))
 
+    def test_too_many_questions_come_up(self):
+        """Very many scopes, and no program: each argument of each part brings one of very many types."""
+        lines = []
+        for at, name in enumerate(LETTERS):
+            words = [name + letter for letter in "abcd"]
+            lines.append(f"{name} : (" + " -> ".join([f"(({word} -> q) -> q)" for word in words]) + " -> q) -> q")
+        library = Library.read(*lines)
+        self.assertEqual(counts_upto(library, Q, 4), (0,) * 5)
+        self.assertTrue(same(self.refused(TooMany, counts_upto, library, Q, 40).limit, 20000))
+
+    def test_limits_to_the_letter(self):
+        """With lower limits: four triples come up for four sizes of NAT, and four questions in PIPE."""
+        with mock.patch.object(tally, "MAX_TRIPLES", 4):
+            self.assertEqual(counts_upto(NAT, N, 4), (0, 1, 1, 1, 1))
+            self.assertEqual(self.refused(TooMany, counts_upto, NAT, N, 5).limit, 4)
+            self.assertEqual(count_of(NAT, N, 4), 1)
+        with mock.patch.object(tally, "MAX_TRIPLES", 2):
+            self.assertEqual(self.refused(TooMany, counts_upto, PIPE, Type.plain("c"), 5).limit, 2)
+        with mock.patch.object(tally, "MAX_TRIPLES", 3):
+            self.assertEqual(counts_upto(PIPE, Type.plain("c"), 5), (0,) * 6)
+        with mock.patch.object(counts, "_ENDLESS", 17):
+            self.assertEqual(counts_upto(TWO, N, 5), (0, 2, 0, 4, 0, 16))
+        with mock.patch.object(counts, "_ENDLESS", 16):
+            self.assertEqual(self.refused(TooMany, counts_upto, TWO, N, 5).limit, 60)
+            self.assertEqual(self.refused(TooMany, count_of, TWO, N, 5).limit, 60)
+
     def test_more_than_a_hundred_variables_are_left_out(self):
         library = LEAVES.only("l")
         self.assertTrue(same(counts_upto(library, A, 12), tuple([0] + [13 * at for at in range(8)] + [0] * 4)))
         self.assertEqual(count_of(library, A, 9), len(programs(parts_of(library), (), tree(A), 9)))
+        # Nine of the goal and seven times thirteen are just a hundred.
+        for many, due in [(8, 99), (9, 100), (10, 0)]:
+            self.assertEqual(count_of(library, Type.read(" -> ".join(["a"] * (many + 1))), 8), due)
 
     def test_many_questions_are_no_matter_for_sizes(self):
         self.assertEqual(counts_upto(wide(11), Q, 3), (0, 0, 0, 0))

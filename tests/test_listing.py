@@ -108,6 +108,8 @@ class Lists(Case):
         self.assertEqual(rank_of(library, A, last), 13 * 28 - 1)
         self.assertEqual(program_at(library, A, 13 * 28 - 1), last)
         self.assertEqual(self.refused(NoProgram, program_at, library, A, 13 * 28).wanted, "a")
+        nine = Type.read(" -> ".join(["a"] * 10))
+        self.assertEqual([one[7][1] for one in programs_of(library, nine, 8)], sorted(f"x{at}" for at in range(100)))
 
     def test_generators_raise_nothing_ahead_of_their_first_element(self):
         for found in [programs_of(None, None, None), all_programs(None, None, most=None), programs_of(MORE, Q, 40),
@@ -157,7 +159,8 @@ class Ranks(Case):
     def test_only_sizes_up_to_that_of_the_program_count(self):
         self.assertTrue(same(self.refused(TooMany, counts_upto, MORE, Q, 40).limit, 20000))
         first = program_at(MORE, Q, 0)
-        self.assertEqual([rank_of(MORE, Q, first), next_program(MORE, Q, first).nodes], [0, program_at(MORE, Q, 1).nodes])
+        self.assertEqual(rank_of(MORE, Q, first), 0)
+        self.assertEqual(next_program(MORE, Q, first), program_at(MORE, Q, 1))
         small = program_at(LEAVES, FOURTEEN, 10 ** 9)
         self.assertEqual(rank_of(LEAVES, FOURTEEN, small), 10 ** 9)
         self.assertTrue(same(self.refused(TooMany, next, all_programs(LEAVES, FOURTEEN)).limit, 60))
@@ -198,7 +201,7 @@ class Listings(Case):
 
     def test_between(self):
         listed = Listing(TWO, N, 9)
-        self.assertEqual([len(listed.between(0, 100)), len(listed.between(5, 105)), listed.total], [100, 100, 22 + 80 + 448])
+        self.assertEqual([len(listed.between(0, 100)), len(listed.between(5, 105)), listed.total], [100, 100, 550])
         self.assertTrue(same(self.refused(TooMany, listed.between, 0, 101).limit, 100))
         self.assertEqual(self.refused(TooMany, listed.between, 10 ** 50, 10 ** 50 + 101).limit, 100)
         self.assertEqual(listed.between(10 ** 50, 10 ** 50 + 100), ())

@@ -330,6 +330,10 @@ class Papers(Case):
         for value in all_values() + [("ranks",), ("ranks", ranks, 1), ["ranks", ranks], ("Ranks", ranks),
                                      (ranks, "ranks"), ("barred", ()), ("barred", (FIRST,)), (None, ranks)]:
             self.assertIs(is_built_paper(NAT, N, value), False)
+        barred = built_paper(PIPE, C)[1]
+        self.assertIs(is_built_paper(PIPE, C, ("barred", barred)), True)
+        for word in ["Barred", "ranks", None, "", barred]:
+            self.assertIs(is_built_paper(PIPE, C, (word, barred)), False)
 
     def test_judges_refuse_libraries_and_types(self):
         for call in [is_ranks, is_barred, is_built_paper]:

@@ -2,6 +2,7 @@ import copy
 import itertools
 import random
 import unittest
+from unittest import mock
 
 from fromparts.ask.questions import builds, question_of
 from fromparts.base.libraries import Library
@@ -122,7 +123,8 @@ class Interface(Case):
 
 class Making(Case):
     def test_random_rooms(self):
-        for reach, truths in room_data(200):
+        rand = random.Random(2)
+        for reach, truths in room_data(200) + [some_room(rand, 8, "hgfedcba") for _ in range(100)]:
             self.assertTrue(is_room(reach, truths))
             room = Room(reach, truths)
             self.assertTrue(same([room.reach, room.truths, len(room), list(room)],
@@ -158,7 +160,9 @@ class Making(Case):
                  (((0, 1), (0, 1)), ((), ())), (((0, 1), (1, 2), (2,)), ((), (), ())), (((1,), (1,)), ((), ())),
                  (((0, 1), (1,)), (("a",), ())), (((0, 1), (1,)), (("a",), ("b",))), (((0,),), ((1,),)),
                  (((0,),), ((None,),)), (((None,),), ((),)), (((0, "1"), (1,)), ((), ())), (((0,),), (("x0",),)),
-                 (((0, 10 ** 70),), ((),)), (((0,),), (("abcdefghi",),)), ({0: (0,)}, {0: ()})]
+                 (((0, 10 ** 70),), ((),)), (((0,),), (("abcdefghi",),)), ({0: (0,)}, {0: ()}),
+                 (((0,), (1,)), ((), ("A",))), (((0,), (1,)), (("a",), ("b", "a"))), (((0,), (1,)), ((), None)),
+                 (((0,), (1,)), (["a"], ())), (((0,), [1]), ((), ())), (((0,), (1, 1)), ((), ()))]
         for reach, truths in wrong:
             self.refused(InvalidRoom, Room, reach, truths)
         for value in all_values():
@@ -390,6 +394,9 @@ class Scopes(Case):
                 self.refused(InvalidLibrary, call, value, None)
             for value in others(Type):
                 self.refused(InvalidType, call, NAT, value)
+        for value in others(Room):
+            self.refused(InvalidLibrary, is_refusal, None, None, value)
+            self.refused(InvalidType, is_refusal, NAT, None, value)
         # Many questions are no matter here, as long as there are not many scopes.
         self.assertEqual(self.refused(TooMany, scope_room, JUST, Q).limit, 60)
 
@@ -427,6 +434,22 @@ class Refusals(Case):
         self.assertIs(is_refusal(wide(10), Q, refusal(wide(10), Q)), True)
         self.assertTrue(same(self.refused(TooMany, refusal, wide(11), Q).limit, 2000))
         self.assertIs(is_refusal(wide(10), Q, TWO), False)
+
+    def test_rooms_that_are_too_large(self):
+        """With a lower limit, as what needs more than sixty worlds is larger than a test can look through."""
+        self.assertEqual(len(refusal(Library(), PEIRCE)), 2)
+        with mock.patch.object(rooms, "MAX_WORLDS", 2):
+            self.assertEqual(len(refusal(Library(), PEIRCE)), 2)
+        with mock.patch.object(rooms, "MAX_WORLDS", 1):
+            self.assertEqual(self.refused(TooMany, refusal, Library(), PEIRCE).limit, 1)
+            self.assertEqual(len(refusal(PIPE, Type.plain("c"))), 1)
+        library, goal = Library.read("f : ((a -> a) -> c) -> a", "g : ((a -> a) -> c) -> (c -> c) -> (a -> c) -> a",
+                                     "h : b"), Type.read("(b -> b -> b) -> a")
+        for most in [60, 2]:
+            with mock.patch.object(rooms, "MAX_WORLDS", most):
+                found = refusal(library, goal)
+                self.assertIs(is_refusal(library, goal, found), True)
+                self.assertLessEqual(len(found), most)
 
     def test_other_values_are_no_refusals(self):
         for value in others(Room) + [(TWO.reach, TWO.truths)]:

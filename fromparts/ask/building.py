@@ -16,11 +16,11 @@ def is_plan(library, goal, value):
     if not isinstance(value, dict) or not all([texts.are_question(question) for question in value]):
         return False
     taken = {question: _taken(texts.choices(question), value[question]) for question in value}
-    if first_question(library, goal) not in taken or not all([taken[question] for question in taken]):
+    if first_question(library, goal) not in taken:
         return False
     if not all([asked in taken for question in taken for asked in asked_by(taken[question])]):
         return False
-    # A question has a rank exactly if going on from it comes to an end.
+    # A question has a rank exactly if it takes a choice, and going on from it comes to an end.
     return len(least_ranks(taken)) == len(taken)
 
 

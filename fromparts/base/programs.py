@@ -105,7 +105,7 @@ class Program:
         return self._nodes[at]
 
     def __contains__(self, x):
-        return isinstance(x, str) and x in self._parts
+        return x in self._parts
 
     def __len__(self):
         return len(self._nodes)
@@ -242,9 +242,8 @@ def nodes_of_text(text):
         text = text.replace(mark, f" {mark} ")
     tokens = [_END] + text.split()[::-1]
     nodes = []
+    # What is left behind the node stands in no text of nodes, so that the texts differ.
     _read_node(tokens, nodes)
-    if tokens != [_END]:
-        raise ParseError(None)
     return tuple(nodes)
 
 

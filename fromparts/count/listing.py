@@ -15,7 +15,6 @@ def programs_of(library, goal, size):
     check_size(library, goal, size)
     tally = Tally(library, goal)
     number_of_size(tally, size)
-    tally.free()
     for nodes in rows_in_order(tally, library, goal, size):
         yield Program(nodes)
 
@@ -24,7 +23,6 @@ def all_programs(library, goal, *, most=MAX_NODES):
     """A generator: the programs of at most so many nodes, in order."""
     check_size(library, goal, most)
     tally, _ = tallied(library, goal, most)
-    tally.free()
     for size in range(1, most + 1):
         for nodes in rows_in_order(tally, library, goal, size):
             yield Program(nodes)
@@ -40,7 +38,6 @@ def program_at(library, goal, rank):
     for size in range(1, MAX_NODES + 1):
         number = number_of_size(tally, size)
         if left < number:
-            tally.free()
             return Program(nodes_with(tally, library, goal, size, left))
         left -= number
     raise NoProgram(goal.text)
@@ -50,7 +47,6 @@ def rank_of(library, goal, program):
     """The number of programs ahead of this one."""
     check_program(library, goal, program)
     tally, counts = tallied(library, goal, program.size)
-    tally.free()
     return sum(counts[:-1]) + rank_within(tally, library, goal, program.nodes)
 
 
@@ -58,15 +54,12 @@ def next_program(library, goal, program):
     """The program that comes next, or None."""
     check_program(library, goal, program)
     tally, counts = tallied(library, goal, program.size)
-    tally.free()
     rank = rank_within(tally, library, goal, program.nodes) + 1
     if rank < counts[-1]:
         return Program(nodes_with(tally, library, goal, program.size, rank))
-    following = Tally(library, goal)
     for size in range(program.size + 1, MAX_NODES + 1):
-        if number_of_size(following, size) > 0:
-            following.free()
-            return Program(nodes_with(following, library, goal, size, 0))
+        if number_of_size(tally, size) > 0:
+            return Program(nodes_with(tally, library, goal, size, 0))
     return None
 
 
@@ -76,7 +69,6 @@ class Listing:
     def __init__(self, library, goal, size):
         check_size(library, goal, size)
         self._tally, self._counts = tallied(library, goal, size)
-        self._tally.free()
         self._library = library
         self._goal = goal
         self._size = size

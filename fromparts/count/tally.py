@@ -56,7 +56,6 @@ class Tally:
         self._known = {}
         self._possible = {}
         self._limit = -1
-        self._is_free = False
         self._first = self.wider_by(self.outer_scope(), goal.inputs)
         self._goal = goal
 
@@ -64,10 +63,6 @@ class Tally:
         """The number of the programs of the goal with this size."""
         self.allow(size)
         return self.ways(self._first, self._goal.atom, size)
-
-    def free(self):
-        """Lets any number of triples come up from now on, as for the programs that have been counted."""
-        self._is_free = True
 
     def most_nodes(self):
         """The size up to which it has been worked out which sizes programs can have."""
@@ -112,7 +107,7 @@ class Tally:
             found = [counts[kind] * self._ways_with(scope, kind, size) for kind in self._kinds.heads_with(atom)
                      if counts[kind] > 0]
             self._known[triple] = sum(found)
-            if len(self._known) > MAX_TRIPLES and not self._is_free:
+            if len(self._known) > MAX_TRIPLES:
                 raise TooMany(MAX_TRIPLES)
         return self._known[triple]
 
@@ -139,15 +134,18 @@ class Tally:
         self._limit = limit
         questions = self._questions_within(limit)
         asked = {question: self._asked_by(question) for question in questions}
-        possible = {question: 0 for question in questions}
-        is_stable = False
-        while not is_stable:
-            is_stable = True
-            for question in questions[::-1]:
+        askers = _askers(asked)
+        possible = {}
+        due = [question for question in questions if [] in asked[question]]
+        while due:
+            following = {}
+            for question in due:
                 found = _sizes_with(asked[question], possible, limit)
-                if found != possible[question]:
+                if found != possible.get(question, 0):
                     possible[question] = found
-                    is_stable = False
+                    for asker in askers[question]:
+                        following[asker] = True
+            due = list(following)
         self._possible = possible
 
     def _questions_within(self, limit):
@@ -165,7 +163,7 @@ class Tally:
                 for several in self._asked_by(question):
                     if 0 < len(several) < left:
                         due.setdefault(left - len(several), []).extend(several)
-            if len(found) > MAX_TRIPLES and not self._is_free:
+            if len(found) > MAX_TRIPLES:
                 raise TooMany(MAX_TRIPLES)
         return list(found)
 
@@ -174,6 +172,17 @@ class Tally:
         bits, atom = question
         kinds = [kind for kind in self._kinds.heads_with(atom) if has_bit(bits, kind)]
         return [[(_with_bits(bits, added), asked) for added, asked in self._kinds.asks_of(kind)] for kind in kinds]
+
+
+def _askers(asked):
+    """For each question those that ask it."""
+    askers = {question: [] for question in asked}
+    for question in asked:
+        for several in asked[question]:
+            for one in several:
+                if one in askers:
+                    askers[one].append(question)
+    return askers
 
 
 def _with_bits(bits, added):
@@ -193,9 +202,11 @@ def joined_sizes(masks, limit):
 def sum_sizes(one, other, limit):
     """The sums of two sizes that are not above a limit."""
     found = 0
-    for size in range(limit + 1):
-        if has_bit(other, size):
-            found = found | (one << size)
+    left = other if one else 0
+    while left:
+        lowest = left & -left
+        found = found | one * lowest
+        left = left - lowest
     return found & ((1 << (limit + 1)) - 1)
 
 
