@@ -3,7 +3,7 @@ import unittest
 from unittest import mock
 
 from fromparts.ask.building import least_size
-from fromparts.ask.questions import Questions, builds
+from fromparts.ask.questions import Questions, builds, heads_of, subquestions
 from fromparts.base.libraries import Library
 from fromparts.base.programs import Program, is_program, question_at
 from fromparts.base.types import Type
@@ -43,6 +43,11 @@ def loops_in(library, goal, nodes):
     one = Program(nodes)
     return [(outer, inner) for inner in range(len(nodes)) for outer in one.way_to(inner)[:-1]
             if every[outer] == every[inner]]
+
+
+def steps_of(first):
+    """The questions that the choices of one question ask."""
+    return [one for head in heads_of(first) for one in subquestions(first, head)]
 
 
 class Interface(Case):
@@ -113,6 +118,14 @@ class Numbers(Case):
         self.assertEqual([count(one, Type.plain("b")), count(one.without("g"), Type.plain("b"))], [2, 1])
         self.assertEqual(count(one, Type.read("a -> b")), 4)
         self.assertEqual(count(CONT.with_part("y", Type.plain("b")), Type.read("b -> (a -> b) -> c")), 4)
+
+    def test_a_question_within_itself_is_endless_in_programs_only(self):
+        """[0.23]: a question that comes up within itself is no matter if no program has it there."""
+        library = Library.read("z : a", "f : a -> q -> a")
+        first = Questions(library, A).first
+        self.assertIn(first, steps_of(first))
+        self.assertEqual(count(library, A), 1)
+        self.assertIs(count(library.with_part("y", Q), A), None)
 
     def test_the_same_question_with_other_numbers_of_variables(self):
         library = Library.read("f : (x -> b) -> a", "g : (x -> x -> b) -> a", "h : (x -> a) -> c", "k : a -> c",
@@ -202,9 +215,9 @@ class Numbers(Case):
             self.assertEqual(self.refused(TooMany, counts_upto, PIPE, Type.plain("c"), 5).limit, 2)
         with mock.patch.object(tally, "MAX_TRIPLES", 3):
             self.assertEqual(counts_upto(PIPE, Type.plain("c"), 5), (0,) * 6)
-        with mock.patch.object(counts, "_ENDLESS", 17):
+        with mock.patch.object(counts, "_TOO_LONG", 17):
             self.assertEqual(counts_upto(TWO, N, 5), (0, 2, 0, 4, 0, 16))
-        with mock.patch.object(counts, "_ENDLESS", 16):
+        with mock.patch.object(counts, "_TOO_LONG", 16):
             self.assertEqual(self.refused(TooMany, counts_upto, TWO, N, 5).limit, 60)
             self.assertEqual(self.refused(TooMany, count_of, TWO, N, 5).limit, 60)
 

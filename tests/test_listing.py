@@ -75,6 +75,16 @@ class Lists(Case):
                 found = [one.nodes for one in itertools.islice(all_programs(library, goal, most=most), 400)]
                 self.assertTrue(same(found, programs_upto(library, goal, most)[:400]))
 
+    def test_renaming_renames_the_programs(self):
+        for library, goal in goals():
+            parts = {name: "w" + letter for name, letter in zip(library, "hgfedcba")}
+            atoms = {word: "v" + word[::-1] for word in sorted(set(library.atoms) | set(goal.atoms))}
+            renamed = library.renamed(parts).with_atoms({word: atoms[word] for word in library.atoms})
+            due = [one.renamed(parts).nodes for one in all_programs(library, goal, most=3)]
+            wanted = goal.renamed({word: atoms[word] for word in goal.atoms})
+            found = [one.nodes for one in all_programs(renamed, wanted, most=3)]
+            self.assertEqual(found, sorted(due, key=lambda nodes: (len(nodes), nodes)))
+
     def test_forty_nodes_are_the_most(self):
         self.assertEqual([one.size for one in all_programs(NAT, N)], list(range(1, 41)))
         self.assertEqual([one.text for one in all_programs(PIPE, Type.read("a -> c"))], ["\\x0. g (f x0)"])

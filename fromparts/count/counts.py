@@ -14,7 +14,7 @@ MAX_TIMES = 10
 
 _LOOP = "loop"
 _RANKS = "ranks"
-_ENDLESS = 10 ** 60
+_TOO_LONG = 10 ** 60
 
 
 def usable_questions(library, goal):
@@ -31,7 +31,7 @@ def count(library, goal):
     if len(ranks) < len(usable):
         return None
     number = _number_of(library, goal, whole, ranks)
-    if number >= _ENDLESS:
+    if number >= _TOO_LONG:
         raise TooMany(MAX_DIGITS)
     return number
 
@@ -57,7 +57,7 @@ def _number_of(library, goal, whole, ranks):
     numbers = {}
     # What a question asks has a lesser rank, so its number is known by then.
     for _, state in sorted([(ranks[state[0]], state) for state in states]):
-        numbers[state] = min(_ENDLESS, sum([_product(often, asked, numbers) for often, asked in states[state]]))
+        numbers[state] = min(_TOO_LONG, sum([_product(often, asked, numbers) for often, asked in states[state]]))
     return numbers[start]
 
 
@@ -96,7 +96,7 @@ def _asked_with(state, choice, told, texts):
 def _product(often, asked, numbers):
     number = often
     for state in asked:
-        number = min(_ENDLESS, number * numbers[state])
+        number = min(_TOO_LONG, number * numbers[state])
     return number
 
 
@@ -177,7 +177,7 @@ def tallied(library, goal, size):
 def number_of_size(tally, size):
     """The number of the programs of this size by a tally, if it has not too many digits."""
     number = tally.number_with(size)
-    if number >= _ENDLESS:
+    if number >= _TOO_LONG:
         raise TooMany(MAX_DIGITS)
     return number
 

@@ -9,7 +9,7 @@ class Due:
     """A row of programs that are still due: the first one, of a type in a scope, and those behind it.
 
     `above` are the types of the variables that are bound above the first one, and `around` is the number of the scope
-    there. A row is told apart from an empty one, which is None.
+    there. An empty row is None.
     """
 
     def __init__(self, tally, wanted, above, around, behind):
