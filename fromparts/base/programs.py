@@ -1,43 +1,32 @@
 """Programs: trees of nodes, and which types they have."""
 
 from fromparts.base.libraries import Library
+from fromparts.base.nodes import are_nodes, end_of, gaps_of, level_of, nodes_with_text, places_above, text_of_nodes
 from fromparts.base.types import Type
-from fromparts.base.words import VARIABLE, is_integer, is_variable, is_word
+from fromparts.base.words import GAP, is_integer, is_variable, is_word
 from fromparts.errors import InvalidLibrary, InvalidNumber, InvalidOperation, InvalidProgram, InvalidType, ParseError
 
 MAX_NODES = 40
-MAX_BOUND = 100
-
-_MAX_COUNT = 15
-_BINDER = "\\"
-_DOT = "."
-_OPEN = "("
-_CLOSE = ")"
-_END = ""
 
 
 class Program:
     """A tree of nodes (binders, head, arguments), told in preorder."""
 
     def __init__(self, nodes):
-        if not _are_nodes(nodes):
+        if not are_nodes(nodes) or len(nodes) > MAX_NODES or gaps_of(nodes):
             raise InvalidProgram("no nodes of a program")
         self._nodes = nodes
         self._text = text_of_nodes(nodes)
-        self._above = _places_above(nodes)
+        self._above = places_above(nodes)
         self._parts = tuple(sorted(set([head for _, head, _ in nodes if is_word(head)])))
 
     @classmethod
     def read(cls, text):
         """The program with this text."""
         try:
-            found = cls(nodes_of_text(text))
+            return cls(nodes_with_text(text))
         except InvalidProgram:
             raise ParseError(None) from None
-        # A program has one text, so one that binds other variables, or has other blanks, is the text of none.
-        if found.text != text:
-            raise ParseError(None)
-        return found
 
     @property
     def nodes(self):
@@ -131,7 +120,7 @@ def check_goal(library, goal):
 def is_program(library, goal, value):
     """Whether the value is a program of this type."""
     check_goal(library, goal)
-    return isinstance(value, Program) and typed_nodes(library, goal, value) is not None
+    return isinstance(value, Program) and typed_nodes(library, goal, value.nodes) is not None
 
 
 def type_at(library, goal, program, place):
@@ -158,7 +147,7 @@ def question_in(library, scope, atom):
 def check_program(library, goal, program):
     """Refuses what is no program of the goal; otherwise, for each node, its type and the types in its scope."""
     check_goal(library, goal)
-    told = typed_nodes(library, goal, program) if isinstance(program, Program) else None
+    told = typed_nodes(library, goal, program.nodes) if isinstance(program, Program) else None
     if told is None:
         raise InvalidProgram("no program of this type")
     return told
@@ -172,19 +161,27 @@ def _typed_node(library, goal, program, place):
     return told[place]
 
 
-def typed_nodes(library, goal, program):
-    """For each node its type and the types in its scope, or None if the program is none of this goal."""
+def typed_nodes(library, goal, nodes):
+    """For each node its type and the types in its scope, or None if these are no nodes of this goal."""
     told = []
     due = [(goal, ())]
-    for binders, head, many in program.nodes:
+    for binders, head, many in nodes:
         wanted, above = due.pop()
         scope = above + wanted.inputs
-        found = head_type(library, scope, head)
-        if binders != len(wanted.inputs) or found is None or found.atom != wanted.atom or many != len(found.inputs):
+        asked = _asked_by_head(library, scope, head, wanted.atom)
+        if asked is None or binders != len(wanted.inputs) or many != len(asked):
             return None
         told.append((wanted, scope))
-        due.extend([(one, scope) for one in found.inputs[::-1]])
+        due.extend([(one, scope) for one in asked[::-1]])
     return told
+
+
+def _asked_by_head(library, scope, head, atom):
+    """The types of the arguments of a head, or None if there is no such head of this atom in scope."""
+    if head == GAP:
+        return ()
+    found = head_type(library, scope, head)
+    return found.inputs if found is not None and found.atom == atom else None
 
 
 def head_type(library, scope, head):
@@ -194,136 +191,6 @@ def head_type(library, scope, head):
     if is_variable(head) and level_of(head) < len(scope):
         return scope[level_of(head)]
     return None
-
-
-def level_of(variable):
-    return int(variable[1:])
-
-
-def end_of(nodes, place):
-    """The place behind a node and all below it."""
-    due = 1
-    while due > 0:
-        due += nodes[place][2] - 1
-        place += 1
-    return place
-
-
-def text_of_nodes(nodes):
-    """The text of a tree of nodes; it is put together from the last node to the first one."""
-    bounds = bounds_of(nodes)
-    texts = []
-    for at in range(len(nodes) - 1, -1, -1):
-        binders, head, many = nodes[at]
-        text = " ".join([head] + texts[len(texts) - many:][::-1])
-        texts = texts[:len(texts) - many]
-        if binders > 0:
-            levels = range(bounds[at], bounds[at] + binders)
-            text = _BINDER + " ".join([f"{VARIABLE}{level}" for level in levels]) + _DOT + " " + text
-        texts.append(f"({text})" if at > 0 and (binders > 0 or many > 0) else text)
-    return texts[0]
-
-
-def bounds_of(nodes):
-    """For each node how many variables are bound above it."""
-    bounds = []
-    due = [0]
-    for binders, _, many in nodes:
-        bounds.append(due.pop())
-        due.extend([bounds[-1] + binders] * many)
-    return bounds
-
-
-def nodes_of_text(text):
-    """The only nodes that can have this text, if there are any with it, which is still to be asked."""
-    if not isinstance(text, str):
-        raise ParseError(None)
-    for mark in (_BINDER, _DOT, _OPEN, _CLOSE):
-        text = text.replace(mark, f" {mark} ")
-    tokens = [_END] + text.split()[::-1]
-    nodes = []
-    # What is left behind the node stands in no text of nodes, so that the texts differ.
-    _read_node(tokens, nodes)
-    return tuple(nodes)
-
-
-def _read_node(tokens, nodes):
-    """Takes what belongs to one node from the end of the tokens, and adds it and what is below it to the nodes."""
-    # Beyond the limit a text is that of no program, and could nest far deeper than calls can.
-    if len(nodes) >= MAX_NODES:
-        raise ParseError(None)
-    binders = _read_binders(tokens)
-    place = len(nodes)
-    head = _read_name(tokens)
-    nodes.append((binders, head, 0))
-    many = 0
-    while tokens[-1] not in (_CLOSE, _END):
-        many += 1
-        if tokens[-1] != _OPEN:
-            nodes.append((0, _read_name(tokens), 0))
-            continue
-        tokens.pop()
-        _read_node(tokens, nodes)
-        if tokens[-1] != _CLOSE:
-            raise ParseError(None)
-        tokens.pop()
-    nodes[place] = (binders, head, many)
-
-
-def _read_binders(tokens):
-    """Takes the variables that are bound; how many there are. Their names are told by their number."""
-    if tokens[-1] != _BINDER:
-        return 0
-    tokens.pop()
-    many = 0
-    while tokens[-1] != _DOT:
-        _read_name(tokens)
-        many += 1
-    tokens.pop()
-    return many
-
-
-def _read_name(tokens):
-    if tokens[-1] in (_BINDER, _DOT, _OPEN, _CLOSE, _END):
-        raise ParseError(None)
-    return tokens.pop()
-
-
-def _are_nodes(nodes):
-    if not isinstance(nodes, tuple) or not 1 <= len(nodes) <= MAX_NODES:
-        return False
-    if not all([_is_node(node) for node in nodes]):
-        return False
-    # How many variables are bound above each of the nodes that are still due, the next one last.
-    due = [0]
-    for binders, head, many in nodes:
-        if not due:
-            return False
-        bound = due.pop() + binders
-        if bound > MAX_BOUND or (is_variable(head) and level_of(head) >= bound):
-            return False
-        due.extend([bound] * many)
-    return not due
-
-
-def _is_node(value):
-    if not isinstance(value, tuple) or len(value) != 3:
-        return False
-    return _is_count(value[0]) and (is_word(value[1]) or is_variable(value[1])) and _is_count(value[2])
-
-
-def _is_count(value):
-    return is_integer(value) and 0 <= value <= _MAX_COUNT
-
-
-def _places_above(nodes):
-    """For each node the place of the one above it, and None for the root."""
-    places = []
-    due = [None]
-    for at, node in enumerate(nodes):
-        places.append(due.pop())
-        due.extend([at] * node[2])
-    return places
 
 
 def _are_names(names):

@@ -3,7 +3,8 @@
 from fromparts.ask.asking import Texts, asked_by, first_question, least_costs, reached, whole_choices
 from fromparts.ask.building import grown_nodes, least_taken
 from fromparts.ask.questions import Questions, choices_for
-from fromparts.base.programs import MAX_NODES, Program, check_goal, is_program, level_of, question_at
+from fromparts.base.nodes import level_of
+from fromparts.base.programs import MAX_NODES, Program, check_goal, is_program, question_at
 from fromparts.base.words import VARIABLE, is_integer, is_variable
 from fromparts.count.loops import loop_free_ranks, short_loops
 from fromparts.count.tally import Tally

@@ -5,7 +5,7 @@ come into scope; sets of types and of sizes by the bits of an integer.
 """
 
 from fromparts.base.bits import bits_of, has_bit
-from fromparts.base.programs import MAX_BOUND
+from fromparts.base.nodes import MAX_BOUND
 from fromparts.errors import TooMany
 
 MAX_TRIPLES = 20000
@@ -119,7 +119,7 @@ class Tally:
         for at, (inner, atom) in enumerate(asked):
             behind = joined_sizes(masks[at + 1:], size)
             fewer = {}
-            for total in left:
+            for total in list(left):
                 for one in range(1, total + 1):
                     if has_bit(masks[at], one) and has_bit(behind, total - one):
                         ways = left[total] * self.ways(inner, atom, one)
