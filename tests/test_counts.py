@@ -215,9 +215,9 @@ class Numbers(Case):
             self.assertEqual(self.refused(TooMany, counts_upto, PIPE, Type.plain("c"), 5).limit, 2)
         with mock.patch.object(tally, "MAX_TRIPLES", 3):
             self.assertEqual(counts_upto(PIPE, Type.plain("c"), 5), (0,) * 6)
-        with mock.patch.object(counts, "_TOO_LONG", 17):
+        with mock.patch.object(counts, "TOO_LONG", 17):
             self.assertEqual(counts_upto(TWO, N, 5), (0, 2, 0, 4, 0, 16))
-        with mock.patch.object(counts, "_TOO_LONG", 16):
+        with mock.patch.object(counts, "TOO_LONG", 16):
             self.assertEqual(self.refused(TooMany, counts_upto, TWO, N, 5).limit, 60)
             self.assertEqual(self.refused(TooMany, count_of, TWO, N, 5).limit, 60)
 

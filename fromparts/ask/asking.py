@@ -84,12 +84,12 @@ def first_question(library, goal):
     return wider_scope(library.scope, [one.text for one in goal.inputs]), goal.atom
 
 
-def asked_choices(library, goal, limit):
-    """The choices of all questions that are asked for a type, by ascending questions, which are not above a limit."""
+def asked_choices(first, limit):
+    """The choices of all questions that come up from one, by ascending questions, which are not above a limit."""
     texts = Texts()
     found = {}
-    due = [first_question(library, goal)]
-    seen = {due[0]}
+    due = [first]
+    seen = {first}
     while due:
         question = due.pop()
         found[question] = texts.choices(question)

@@ -33,18 +33,18 @@ def planned(library, goal, plan):
     """The program of a plan."""
     if not is_plan(library, goal, plan):
         raise InvalidOperation("no plan of this type")
-    return Program(grown_nodes(library, goal, plan, ())[0])
+    return Program(grown_nodes(library, goal, (), plan, ())[0])
 
 
-def grown_nodes(library, goal, plan, spine):
-    """The nodes of a program by a plan, and the places of those on the spine.
+def grown_nodes(library, goal, bound, plan, spine):
+    """The nodes of a program by a plan, with variables of these types bound above, and the places on the spine.
 
     The spine is a row of pairs (head, index) of choices ahead of those of the plan: that of the root, that of its
     argument with this index, and so on. The node behind the last pair takes the choice of the plan.
     """
     nodes = []
     places = []
-    due = [(goal, (), 0)]
+    due = [(goal, bound, 0)]
     while due:
         if len(nodes) == MAX_NODES:
             raise TooMany(MAX_NODES)
@@ -102,13 +102,14 @@ def _built_costs(choices, library, goal):
 def least_plan(library, goal):
     """The plan of the least choices by size, and then by text."""
     choices = choices_for(library, goal)
-    taken = least_taken(choices, _built_costs(choices, library, goal))
-    return {question: taken[question][0][0] for question in reached(taken, first_question(library, goal))}
+    plan = plan_of_least(choices, _built_costs(choices, library, goal))
+    taken = {question: _taken(choices[question], plan[question]) for question in plan}
+    return {question: plan[question] for question in reached(taken, first_question(library, goal))}
 
 
-def least_taken(choices, costs):
-    """For each answered question the choice with the least size, and among those the least text, alone."""
-    return {question: (_least_choice(choices[question], costs),) for question in costs}
+def plan_of_least(choices, costs):
+    """For each answered question the choice with the least size, and among those the least text."""
+    return {question: _least_choice(choices[question], costs)[0] for question in costs}
 
 
 def _least_choice(choices, costs):
@@ -118,7 +119,7 @@ def _least_choice(choices, costs):
 
 def shortest(library, goal):
     """A program of the least size."""
-    return Program(grown_nodes(library, goal, least_plan(library, goal), ())[0])
+    return Program(grown_nodes(library, goal, (), least_plan(library, goal), ())[0])
 
 
 def plans(library, goal):

@@ -137,13 +137,23 @@ def _choices_of(question):
 def choices_for(library, goal):
     """The choices of all questions that are asked for a type, with their subquestions."""
     check_goal(library, goal)
-    return asked_choices(library, goal, MAX_QUESTIONS)
+    return choices_from(first_question(library, goal))
+
+
+def choices_from(question):
+    """The choices of all questions that come up from one, with their subquestions."""
+    return asked_choices(question, MAX_QUESTIONS)
 
 
 def builds(library, goal):
     """Whether the type has a program in the library."""
-    choices = choices_for(library, goal)
-    return first_question(library, goal) in least_ranks(choices)
+    check_goal(library, goal)
+    return is_answered(first_question(library, goal))
+
+
+def is_answered(question):
+    """Whether a question is answered."""
+    return question in least_ranks(choices_from(question))
 
 
 def is_ranks(library, goal, value):

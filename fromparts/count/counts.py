@@ -1,13 +1,14 @@
 """How many programs there are: endlessly many, or a number, also by sizes."""
 
-from fromparts.ask.asking import Texts, asked_by, first_question, least_costs, reached, whole_choices
-from fromparts.ask.building import grown_nodes, least_taken
+from fromparts.ask.asking import asked_by, first_question
+from fromparts.ask.building import grown_nodes, plan_of_least
 from fromparts.ask.questions import Questions, choices_for
 from fromparts.base.nodes import level_of
 from fromparts.base.programs import MAX_NODES, Program, check_goal, is_program, question_at
 from fromparts.base.words import VARIABLE, is_integer, is_variable
 from fromparts.count.loops import loop_free_ranks, short_loops
 from fromparts.count.tally import Tally
+from fromparts.count.totals import TOO_LONG, number_from, usable_choices
 from fromparts.errors import InvalidNumber, InvalidOperation, InvalidProgram, TooMany
 
 MAX_DIGITS = 60
@@ -15,7 +16,6 @@ MAX_TIMES = 10
 
 _LOOP = "loop"
 _RANKS = "ranks"
-_TOO_LONG = 10 ** 60
 
 
 def usable_questions(library, goal):
@@ -25,92 +25,25 @@ def usable_questions(library, goal):
 
 def count(library, goal):
     """The number of programs of the goal, or None if there are endlessly many."""
-    whole, usable, _ = _usable_choices(library, goal)
-    if not usable:
-        return 0
-    ranks = loop_free_ranks(whole, usable)
-    if len(ranks) < len(usable):
-        return None
-    number = _number_of(library, goal, whole, ranks)
-    if number >= _TOO_LONG:
-        raise TooMany(MAX_DIGITS)
-    return number
-
-
-def _usable_choices(library, goal):
-    """The whole choices of the answered questions, the usable questions, and the least sizes."""
     choices = choices_for(library, goal)
-    costs = least_costs(choices)
-    whole = whole_choices(choices, costs)
-    first = first_question(library, goal)
-    usable = reached(whole, first) if first in whole else ()
-    return whole, usable, costs
-
-
-def _number_of(library, goal, whole, ranks):
-    """The number of programs, or a greater one if it has too many digits, where questions do not come back."""
-    texts = Texts()
-    told = _texts_that_count(whole, ranks)
-    first = first_question(library, goal)
     scope = [part.text for part in list(library.parts.values()) + list(goal.inputs)]
-    start = (first, tuple([scope.count(text) for text in told[first]]))
-    states = _states_from(start, whole, told, texts)
-    numbers = {}
-    # What a question asks has a lesser rank, so its number is known by then.
-    for _, state in sorted([(ranks[state[0]], state) for state in states]):
-        numbers[state] = min(_TOO_LONG, sum([_product(often, asked, numbers) for often, asked in states[state]]))
-    return numbers[start]
-
-
-def _texts_that_count(whole, ranks):
-    """For each question the ascending texts of the choices that it, or a question that comes up from it, has."""
-    told = {}
-    for _, question in sorted([(ranks[question], question) for question in ranks]):
-        own = [text for text, _ in whole[question]]
-        below = [text for asked in asked_by(whole[question]) for text in told[asked]]
-        told[question] = tuple(sorted(set(own + below)))
-    return told
-
-
-def _states_from(start, whole, told, texts):
-    """What comes up from a question with numbers of heads: for each choice how many heads, and what these ask."""
-    states = {}
-    due = [start]
-    while due:
-        state = due.pop()
-        if state not in states:
-            states[state] = [_asked_with(state, choice, told, texts) for choice in whole[state[0]]]
-            due.extend([one for _, asked in states[state] for one in asked])
-    return states
-
-
-def _asked_with(state, choice, told, texts):
-    """How many heads of a choice there are, and its subquestions with the numbers of heads there."""
-    question, often = state
-    text, asked = choice
-    many = {told[question][at]: number for at, number in enumerate(often)}
-    added = [several for several, _ in texts.asks_of(text)]
-    inner = [(one, tuple([many[word] + added[at].count(word) for word in told[one]])) for at, one in enumerate(asked)]
-    return many[text], inner
-
-
-def _product(often, asked, numbers):
-    number = often
-    for state in asked:
-        number = min(_TOO_LONG, number * numbers[state])
+    number = number_from(choices, first_question(library, goal), scope)
+    if number is not None and number >= TOO_LONG:
+        raise TooMany(MAX_DIGITS)
     return number
 
 
 def count_paper(library, goal):
     """A loop, or ranks that no loop lets, whichever there is."""
-    whole, usable, costs = _usable_choices(library, goal)
+    choices = choices_for(library, goal)
+    first = first_question(library, goal)
+    whole, usable, costs = usable_choices(choices, first)
     ranks = loop_free_ranks(whole, usable)
     if len(ranks) == len(usable):
         return _RANKS, ranks
-    taken = least_taken(whole, costs)
-    plan = {question: taken[question][0][0] for question in taken}
-    for _, _, way, back in short_loops(whole, usable, costs, first_question(library, goal)):
-        nodes, places = grown_nodes(library, goal, plan, way + back)
+    plan = plan_of_least(whole, costs)
+    for _, _, way, back in short_loops(whole, usable, costs, first):
+        nodes, places = grown_nodes(library, goal, (), plan, way + back)
         try:
             return _LOOP, (Program(nodes), places[len(way)], places[-1])
         except InvalidProgram:
@@ -121,7 +54,8 @@ def count_paper(library, goal):
 
 def is_count_paper(library, goal, value):
     """Whether the value shows that there are endlessly many programs, or that there are not."""
-    whole, usable, _ = _usable_choices(library, goal)
+    choices = choices_for(library, goal)
+    whole, usable, _ = usable_choices(choices, first_question(library, goal))
     if not isinstance(value, tuple) or len(value) != 2:
         return False
     if value[0] == _LOOP:
@@ -178,7 +112,7 @@ def tallied(library, goal, size):
 def number_of_size(tally, size):
     """The number of the programs of this size by a tally, if it has not too many digits."""
     number = tally.number_with(size)
-    if number >= _TOO_LONG:
+    if number >= TOO_LONG:
         raise TooMany(MAX_DIGITS)
     return number
 
