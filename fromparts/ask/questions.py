@@ -182,15 +182,15 @@ def is_below(asked, rank, ranks):
 def is_barred(library, goal, value):
     """Whether the value is an ascending tuple of questions that is barred, and has the question of the type."""
     check_goal(library, goal)
-    texts = Texts()
+    return are_barred(Texts(), value) and first_question(library, goal) in value
+
+
+def are_barred(texts, value):
+    """Whether the value is an ascending tuple of questions that is barred."""
     if not isinstance(value, tuple) or not all([texts.are_question(question) for question in value]):
         return False
-    if not is_ascending(value):
-        return False
     bars = {question: True for question in value}
-    if first_question(library, goal) not in bars:
-        return False
-    return all([_is_closed(texts.choices(question), bars) for question in value])
+    return is_ascending(value) and all([_is_closed(texts.choices(question), bars) for question in value])
 
 
 def _is_closed(choices, bars):

@@ -22,20 +22,20 @@ def short_loops(whole, usable, costs, first):
     A loop is a tuple of the number of nodes, the question, the spine from the first question to it, and the spine
     from there to where it comes up again. Those with too many nodes are left out.
     """
-    ways = _nearest(whole, costs, [(0, first, ())])
+    ways = nearest(whole, costs, [(0, first, ())])
     found = []
     for question in usable:
         if question in ways:
             # A scope only gets wider, so a question comes up again by questions of its own scope only.
             level = {one: whole[one] for one in usable if one[0] == question[0]}
-            back = _nearest(level, costs, _steps(level, costs, 0, question, ()))
+            back = nearest(level, costs, _steps(level, costs, 0, question, ()))
             if question in back:
                 nodes = ways[question][0] + back[question][0] + costs[question]
                 found.append((nodes, question, ways[question][1], back[question][1]))
     return [loop for loop in sorted(found) if loop[0] <= MAX_NODES]
 
 
-def _nearest(whole, costs, begun):
+def nearest(whole, costs, begun):
     """The questions that are come to with their least numbers of nodes beside them, and the spines there."""
     queue = sorted(begun)
     found = {}

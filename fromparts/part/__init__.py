@@ -1,0 +1,1 @@
+"""Parts: what they are good for."""
