@@ -23,6 +23,8 @@ UNUSED = set("register mro elements open input law version_info with_traceback a
 LIBRARY = {"heapq", "math", "itertools"}
 METHODS = set("""__init__ __eq__ __repr__ __str__ __len__ __enter__ __exit__ __call__ __iter__ __lt__ __le__ __gt__
     __ge__ __ne__ __neg__ __pos__ __invert__ __abs__ __bool__ __contains__ __getitem__ __setitem__""".split())
+# Methods may have these names of methods of strings, lists and dicts.
+LIKE_BUILTINS = {"upper", "remove", "count", "index", "find"}
 ARITHMETIC = re.compile("__[ri]?(add|sub|mul|floordiv|mod|pow|and|or|xor|lshift|rshift)__")
 
 
@@ -140,6 +142,28 @@ class Code(unittest.TestCase):
                 else:
                     self.assertIsInstance(node, (ast.ImportFrom, ast.FunctionDef, ast.ClassDef), path)
 
+    def test_values_at_module_level_are_plain(self):
+        """Literals, what operators make of them, and dicts of functions that are defined above."""
+        for path, tree in each_tree():
+            above = set()
+            for node in tree.body:
+                if isinstance(node, ast.FunctionDef):
+                    above.add(node.name)
+                elif isinstance(node, ast.Assign):
+                    for one in ast.walk(node.value):
+                        if isinstance(one, ast.Name):
+                            self.assertTrue(one.id in above and isinstance(node.value, ast.Dict), (path, one.id))
+                        self.assertNotIsInstance(one, (ast.Call, ast.Attribute, ast.Subscript, ast.ListComp), path)
+
+    def test_rows_of_exit(self):
+        """Only attributes are assigned there, and only attributes and names to them."""
+        for path, node in each_node(ast.FunctionDef):
+            if node.name == "__exit__":
+                for row in node.body:
+                    self.assertIsInstance(row, ast.Assign, path)
+                    self.assertEqual([one.__class__ for one in row.targets], [ast.Attribute], path)
+                    self.assertIsInstance(row.value, (ast.Attribute, ast.Name), path)
+
     def test_decorators(self):
         for path, node in each_node((ast.FunctionDef, ast.ClassDef)):
             for one in node.decorator_list:
@@ -227,11 +251,11 @@ class Package(unittest.TestCase):
         builtin = {name for kind in (str, int, list, dict, tuple, set, bytes) for name in dir(kind)}
         self.assertEqual(properties & plain, set())
         self.assertEqual(others & (plain | properties), set())
-        self.assertEqual(stored & (plain | others), set())
+        self.assertEqual(stored & (plain | others | properties), set())
         self.assertEqual((properties | others) & builtin, set())
         self.assertNotIn("keys", plain | stored)
         for name in (plain & builtin) - METHODS:
-            self.assertTrue(name == "upper" or ARITHMETIC.fullmatch(name), name)
+            self.assertTrue(name in LIKE_BUILTINS or ARITHMETIC.fullmatch(name), name)
 
     def test_generators(self):
         made = [node.name for node in functions() if is_generator(node)]

@@ -171,7 +171,8 @@ class Found(Case):
         """Types of near parts have an atom m that far parts do not have; it stays on its side."""
         library = Library.read("l : (m -> a) -> b", "u : m -> a -> a", "g : b -> a", "c : a", "h : a -> a")
         for text in ["l (\\x0. u x0 c)", "l (\\x0. h (u x0 (h (u x0 (h (u x0 c))))))",
-                     "l (\\x0. u x0 (g (l (\\x1. u x0 (h (u x1 c))))))", "l (\\x0. g (l (\\x1. g (l (\\x2. u x1 c)))))"]:
+                     "l (\\x0. u x0 (g (l (\\x1. u x0 (h (u x1 c))))))",
+                     "l (\\x0. g (l (\\x1. g (l (\\x2. u x1 c)))))"]:
             program = Program.read(text)
             row, _, _ = value = interface_of(library, ("l", "u"), B, program)
             self.assertTrue(plain_is_interface(library, ("l", "u"), B, program, value))
@@ -330,7 +331,8 @@ def near_values(value, other):
     row, given, far = value
     found = [value, (row, given, other), (row[1:], given, far), (row, given[1:], far), (row[1:], given[1:], far),
              (row[::-1], given, far), (row, given[::-1], far), (row[::-1], given[::-1], far),
-             (row + row[:1], given + given[:1], far), (row + (A,), given + (Program.read("f"),), far), (row, far, given)]
+             (row + row[:1], given + given[:1], far), (row + (A,), given + (Program.read("f"),), far),
+             (row, far, given)]
     for at in range(len(row)):
         found.append((row[:at] + (A >> row[at],) + row[at + 1:], given, far))
         found.append((row, given[:at] + (far,) + given[at + 1:], far))
@@ -429,7 +431,8 @@ class Errors(Case):
             self.refused(InvalidProgram, is_interface, PIPE, ("f",), GOAL, value, VALUE)
 
     def test_rows(self):
-        for value in [value for value in all_values() if value != ()] + [[AB], ("a -> b",), (AB, None), AB, (None,) * 9]:
+        for value in [value for value in all_values() if value != ()] + [[AB], ("a -> b",), (AB, None), AB,
+                                                                         (None,) * 9]:
             self.refused(InvalidType, far_library, PIPE, ("f",), value)
             self.refused(InvalidType, does_pass, PIPE, ("f",), GOAL, value)
 
@@ -516,7 +519,8 @@ class Unchanged(Case):
                     goal = C if library is CONT else A
                     one = interface_of(library, near, goal, Program(nodes))
                     other = interface_of(library, near, goal, Program(nodes))
-                    self.assertEqual([[wanted.text for wanted in one[0]], [given.text for given in one[1]], one[2].text],
+                    self.assertEqual([[wanted.text for wanted in one[0]], [given.text for given in one[1]],
+                                      one[2].text],
                                      [[wanted.text for wanted in other[0]], [given.text for given in other[1]],
                                       other[2].text])
 

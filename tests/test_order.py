@@ -38,7 +38,8 @@ def pairs():
 
 def libraries():
     rand = random.Random(122)
-    return [FOUR, NAT, PIPE, CONT, Library(), SHORT, Library.read("f : a -> a"), Library.read("f : a", "g : a -> a")] + [
+    return [FOUR, NAT, PIPE, CONT, Library(), SHORT, Library.read("f : a -> a"),
+            Library.read("f : a", "g : a -> a")] + [
         some_library(rand, rand.randint(1, 6), rand.choice([2, 3, 4]), 3, rand.choice(["a", "ab", "abc"]))
         for _ in range(90)]
 

@@ -206,7 +206,8 @@ class Applied(Case):
                            for other in able[1]]
                 for one, first, other in several:
                     half = applied(library, goal, one, first)
-                    self.assertTrue(applied(library, goal % 1, half, other) == applied(library, goal, one, first, other))
+                    self.assertTrue(applied(library, goal % 1, half, other) == applied(library, goal, one, first,
+                                                                                       other))
 
     def test_levels(self):
         goal = Type.read("(n -> n) -> n -> n -> n")

@@ -327,7 +327,8 @@ class Sets(Case):
         """[0.23]."""
         self.assertEqual(surplus_parts(FOUR), ("f", "g", "z"))
         three = FOUR.without("f")
-        self.assertEqual([surplus_parts(three), is_built(three.without("g", "z"), Type.plain("b"))], [("g", "z"), False])
+        self.assertEqual([surplus_parts(three), is_built(three.without("g", "z"), Type.plain("b"))],
+                         [("g", "z"), False])
         two = Library.read("f : a", "g : a")
         self.assertEqual([surplus_parts(two), is_built(two.without("f", "g"), A)], [("f", "g"), False])
 

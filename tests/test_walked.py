@@ -130,7 +130,8 @@ class Walked(unittest.TestCase):
                         fewer[total - 1] = fewer.get(total - 1, 0)
                     left = fewer
             """), [5])
-        for head, row in [("for k in xs:", "xs.append(k)"), ("for k in xs:", "xs[k] = 1"), ("for k in xs:", "xs += [k]"),
+        for head, row in [("for k in xs:", "xs.append(k)"), ("for k in xs:", "xs[k] = 1"),
+                          ("for k in xs:", "xs += [k]"),
                           ("for k in xs:", "del xs[0]"), ("for k in xs.items():", "xs.pop(k)"),
                           ("for k, y in enumerate(xs):", "xs.append(y)"), ("for k in a if a else xs:", "xs.clear()"),
                           ("for k in self.xs:", "self.xs.append(k)"), ("for k in self.xs:", "other.xs.append(k)"),

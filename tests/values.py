@@ -7,6 +7,9 @@ from fromparts.base.types import Type
 from fromparts.count.listing import Listing
 from fromparts.errors import InvalidNumber, InvalidWord
 from fromparts.room.rooms import Room
+from fromparts.text.shell import Shell
+from fromparts.use.drafts import Draft
+from fromparts.use.project import Project
 
 
 def nested(depth):
@@ -30,7 +33,8 @@ CONTAINERS = [(), ("a",), (1, 2), [], ["a"], [1, [2]], {}, {"a": "b"}, {1: [2], 
 def objects():
     return [Type.plain("a"), Type.read("a -> b"), InvalidWord("a"), InvalidNumber([1]), Library(),
             Library.read("f : a -> b"), Program(((0, "a", 0),)), Program.read("\\x0. f x0"),
-            Room(((0,),), ((),)), Questions(Library(), Type.plain("a")), Listing(Library(), Type.plain("a"), 1)]
+            Room(((0,),), ((),)), Questions(Library(), Type.plain("a")), Listing(Library(), Type.plain("a"), 1),
+            Draft(Library(), Type.read("a -> a")), Project(Library()), Project(Library()).block(), Shell(Library())]
 
 
 def all_values():

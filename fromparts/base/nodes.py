@@ -13,19 +13,19 @@ _CLOSE = ")"
 _END = ""
 
 
-def are_nodes(nodes):
-    """Whether these are nodes of one tree, of which some can be gaps, and which can have any number."""
+def are_nodes(nodes, bound):
+    """Whether these are nodes of one tree below so many variables; some can be gaps, and they can have any number."""
     if not isinstance(nodes, tuple) or not all([_is_node(node) for node in nodes]):
         return False
     # How many variables are bound above each of the nodes that are still due, the next one last.
-    due = [0]
+    due = [bound]
     for binders, head, many in nodes:
         if not due:
             return False
-        bound = due.pop() + binders
-        if bound > MAX_BOUND or (is_variable(head) and level_of(head) >= bound):
+        inner = due.pop() + binders
+        if inner > MAX_BOUND or (is_variable(head) and level_of(head) >= inner):
             return False
-        due.extend([bound] * many)
+        due.extend([inner] * many)
     return not due
 
 
@@ -104,7 +104,7 @@ def nodes_with_text(text):
     """The nodes that have this text, of which there can be any number."""
     nodes = _nodes_of_text(text)
     # A tree has one text, so one that binds other variables, or has other blanks, is the text of none.
-    if not are_nodes(nodes) or text_of_nodes(nodes) != text:
+    if not are_nodes(nodes, 0) or text_of_nodes(nodes) != text:
         raise ParseError(None)
     return nodes
 

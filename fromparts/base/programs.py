@@ -13,7 +13,7 @@ class Program:
     """A tree of nodes (binders, head, arguments), told in preorder."""
 
     def __init__(self, nodes):
-        if not are_nodes(nodes) or len(nodes) > MAX_NODES or gaps_of(nodes):
+        if not are_nodes(nodes, 0) or len(nodes) > MAX_NODES or gaps_of(nodes):
             raise InvalidProgram("no nodes of a program")
         self._nodes = nodes
         self._text = text_of_nodes(nodes)

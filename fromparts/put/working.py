@@ -50,7 +50,7 @@ class Result:
         self._most = most
         self._work = 0
 
-    def is_whole(self):
+    def is_done(self):
         """Whether all nodes have been told."""
         return not self._due
 
@@ -98,7 +98,7 @@ def result_nodes(spot, most):
     """The nodes that come of what stands at a spot, if they are not too many."""
     result = Result(spot, most)
     nodes = []
-    while not result.is_whole():
+    while not result.is_done():
         if len(nodes) == MAX_NODES:
             raise TooMany(MAX_NODES)
         nodes.append(result.next_node())
@@ -110,6 +110,6 @@ def comes_to(spot, nodes, most):
     result = Result(spot, most)
     for node in nodes:
         # Where the nodes differ, what comes behind them need not be worked out.
-        if result.is_whole() or result.next_node() != node:
+        if result.is_done() or result.next_node() != node:
             return False
-    return result.is_whole()
+    return result.is_done()

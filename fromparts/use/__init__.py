@@ -1,0 +1,1 @@
+"""Drafts of programs, and projects of libraries."""
