@@ -531,7 +531,8 @@ class Beside(Case):
         self.assertIs(one.is_within(Draft(Library.read("z : n", "s : n -> n"), N)), True)
 
     def test_equality(self):
-        several = [Draft(library, goal, nodes) for library in [NAT, TWO] for goal in [N, Type.read("n -> n")]
+        several = [Draft(library, goal, nodes) for library in [NAT, TWO]
+                   for goal in [N, Type.read("n -> n"), Type.plain("m"), Type.read("m -> n")]
                    for nodes in partials_upto(library, goal, 2)]
         for at, one in enumerate(several):
             for beside, other in enumerate(several):

@@ -175,7 +175,7 @@ class Refused(Case):
                          ("0: a ", 0), ("0: a  b", 0), (":", 0), (": a", 0), ("0: A", 0), ("0: a1", 0), ("00:", 0),
                          ("0,1:", 0), ("0  1:", 0), ("-1:", 0), ("x:", 0), ("0:\n", 1), ("0:\n\n2:", 1), ("0::", 0),
                          ("0: a: b", 0), ("0: abcdefghi", 0), ("0 1: a\n1: a\n2", 2), ("0\t1:", 0), ("0: a, b", 0),
-                         ("9" * 61 + ":", 0), ("0:\n1", 1)]:
+                         ("9" * 61 + ":", 0), ("0:\n1", 1), ("None:", 0), ("0:\n0 None: a", 1)]:
             self.assertTrue(same(self.refused(ParseError, read_room, text).line, at), text)
 
     def test_lines_that_make_no_room(self):

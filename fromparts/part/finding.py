@@ -63,8 +63,8 @@ def least_sets(names, is_enough):
 
 
 def _rows_of(names):
-    """All rows of some of the names, those with less of them first."""
+    """All rows of some of the names, each behind the rows of some of its own names."""
     rows = [()]
     for name in names:
         rows = rows + [row + (name,) for row in rows]
-    return sorted(rows, key=len)
+    return rows

@@ -3,7 +3,7 @@
 from fromparts.base.libraries import Library
 from fromparts.base.programs import Program, check_program, is_program
 from fromparts.base.words import VARIABLE
-from fromparts.errors import InvalidLibrary, InvalidOperation, InvalidProgram, UnknownWord
+from fromparts.errors import InvalidLibrary, InvalidOperation, InvalidProgram
 from fromparts.put.working import applied_to, comes_to, put_into, result_nodes
 
 MAX_WORK = 20000
@@ -12,8 +12,6 @@ MAX_WORK = 20000
 def own_program(library, part):
     """The own program of the type of a part."""
     check_library(library)
-    if part not in library:
-        raise UnknownWord(part)
     return Program(_own_nodes(library[part], part, 0))
 
 
