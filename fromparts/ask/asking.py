@@ -86,13 +86,21 @@ def first_question(library, goal):
 
 def asked_choices(first, limit):
     """The choices of all questions that come up from one, by ascending questions, which are not above a limit."""
-    texts = Texts()
+    found = choices_within(Texts(), first, limit)
+    return {question: found[question] for question in sorted(found)}
+
+
+def choices_within(table, first, limit):
+    """The choices of all questions that come up from one, in any order, which are not above a limit.
+
+    `table` tells the choices of each question.
+    """
     found = {}
     due = [first]
     seen = {first}
     while due:
         question = due.pop()
-        found[question] = texts.choices(question)
+        found[question] = table.choices(question)
         several = asked_by(found[question])
         for asked in several:
             if asked not in seen:
@@ -100,7 +108,7 @@ def asked_choices(first, limit):
                 due.append(asked)
         if len(seen) > limit:
             raise TooMany(limit)
-    return {question: found[question] for question in sorted(found)}
+    return found
 
 
 def asked_by(choices):
@@ -177,12 +185,12 @@ def cost_of(choice, costs):
 
 
 def _waiting(choices):
-    """How many different subquestions each choice has, and for each question the choices that wait for it."""
+    """How many subquestions each choice has, and for each question the choices that ask it, as often as they do."""
     lacking = {}
     waiting = {question: [] for question in choices}
     for question in choices:
-        lacking[question] = [len(set(several)) for _, several in choices[question]]
+        lacking[question] = [len(several) for _, several in choices[question]]
         for at, (_, several) in enumerate(choices[question]):
-            for asked in sorted(set(several)):
+            for asked in several:
                 waiting[asked].append((question, at))
     return lacking, waiting

@@ -1,6 +1,6 @@
 """How many programs there are: endlessly many, or a number, also by sizes."""
 
-from fromparts.ask.asking import asked_by, first_question
+from fromparts.ask.asking import Texts, asked_by, first_question
 from fromparts.ask.building import grown_nodes, plan_of_least
 from fromparts.ask.questions import Questions, choices_for
 from fromparts.base.nodes import level_of
@@ -27,7 +27,11 @@ def count(library, goal):
     """The number of programs of the goal, or None if there are endlessly many."""
     choices = choices_for(library, goal)
     scope = [part.text for part in list(library.parts.values()) + list(goal.inputs)]
-    number = number_from(choices, first_question(library, goal), scope)
+    return let_number(number_from(Texts(), choices, first_question(library, goal), scope))
+
+
+def let_number(number):
+    """The number itself, or None, if it has not too many digits."""
     if number is not None and number >= TOO_LONG:
         raise TooMany(MAX_DIGITS)
     return number
@@ -111,10 +115,7 @@ def tallied(library, goal, size):
 
 def number_of_size(tally, size):
     """The number of the programs of this size by a tally, if it has not too many digits."""
-    number = tally.number_with(size)
-    if number >= TOO_LONG:
-        raise TooMany(MAX_DIGITS)
-    return number
+    return let_number(tally.number_with(size))
 
 
 def pumped(library, goal, loop, times):

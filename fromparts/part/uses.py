@@ -121,11 +121,6 @@ def _is_surplus(library, part):
     return builds(library.without(part), library[part])
 
 
-def is_useful(library, part):
-    """Whether a part of a library is not surplus."""
-    return not _is_surplus(library, part)
-
-
 def lean(library):
     """The library that is left when surplus parts are taken away one after another, the greatest one first."""
     _check_library(library)

@@ -1,6 +1,6 @@
 """Drafts: programs of which some nodes are still gaps."""
 
-from fromparts.ask.asking import least_costs, least_ranks
+from fromparts.ask.asking import Texts, least_costs, least_ranks
 from fromparts.ask.building import grown_nodes, plan_of_least
 from fromparts.ask.questions import choices_from, is_answered
 from fromparts.base.nodes import are_nodes, end_of, gaps_of, nodes_with_text, text_of_nodes
@@ -88,7 +88,7 @@ class Draft:
         question = self._question_at(place)
         parts = list(self._library.parts.values())
         texts = [one.text for one in parts] + [one.text for one in self._told[place][1]]
-        return number_from(choices_from(question), question, texts)
+        return number_from(Texts(), choices_from(question), question, texts)
 
     def question(self, place):
         """The question at a gap."""
