@@ -1,4 +1,7 @@
-"""Checks of the package's loops: what a loop or a comprehension walks is not changed in it (L23)."""
+"""Checks of the package's loops: what a loop or a comprehension walks is not changed in it (L23).
+
+Two fields of one object can be the same list, so where one of them is walked no other one is changed.
+"""
 
 import ast
 import textwrap
@@ -34,31 +37,45 @@ def places(node):
 
 
 def walked(node):
-    """What a loop over an expression walks; a call of `list` and the like gives something else."""
+    """The expressions that a loop over an expression walks; a call of `list` and the like gives something else."""
     if isinstance(node, ast.Call) and isinstance(node.func, ast.Name) and node.func.id in SEEN_THROUGH:
-        return [place for one in node.args for place in walked(one)]
+        return [thing for one in node.args for thing in walked(one)]
     if isinstance(node, ast.Call) and isinstance(node.func, ast.Attribute) and node.func.attr in VIEWS:
-        return places(node.func.value)
+        return [node.func.value]
+    return choices_of(node)
+
+
+def choices_of(node):
+    """The expressions of which a choice takes one, or the expression itself."""
     if isinstance(node, (ast.IfExp, ast.BoolOp)):
         several = [node.body, node.orelse] if isinstance(node, ast.IfExp) else node.values
-        return [place for one in several for place in walked(one)]
-    return places(node)
+        return [thing for one in several for thing in walked(one)]
+    return [node]
+
+
+def owners(things):
+    """The objects of which some expressions are fields, or items of fields."""
+    found = set()
+    for thing in [one for several in things for one in choices_of(several)]:
+        while isinstance(thing, ast.Subscript):
+            thing = thing.value
+        if isinstance(thing, ast.Attribute):
+            found.add(ast.unparse(thing.value))
+    return found
 
 
 def changed(nodes):
-    """The lines and the places of all that is changed within some nodes."""
+    """The lines and the expressions of all that is changed within some nodes."""
     found = []
     for node in [inner for one in nodes for inner in ast.walk(one)]:
-        several = []
         if isinstance(node, (ast.Subscript, ast.Attribute)) and isinstance(node.ctx, (ast.Store, ast.Del)):
-            several = places(node.value)
+            found.append((node.lineno, node.value))
         elif isinstance(node, ast.AugAssign):
-            several = places(node.target)
+            found.append((node.lineno, node.target))
         elif isinstance(node, ast.Call) and isinstance(node.func, ast.Attribute) and node.func.attr in CHANGING:
-            several = places(node.func.value)
+            found.append((node.lineno, node.func.value))
         elif isinstance(node, ast.Call) and isinstance(node.func, ast.Name) and node.func.id in HEAPS:
-            several = places(node.args[0])
-        found.extend([(node.lineno, place) for place in several])
+            found.append((node.lineno, node.args[0]))
     return found
 
 
@@ -88,7 +105,7 @@ def names_of_one(function):
 
 
 def loops(function):
-    """Pairs of what a loop or a comprehension walks, and the nodes that stand in it."""
+    """Pairs of the expressions that a loop or a comprehension walks, and the nodes that stand in it."""
     found = []
     for node in ast.walk(function):
         if isinstance(node, ast.For):
@@ -101,14 +118,17 @@ def loops(function):
 
 
 def walked_and_changed(tree):
-    """The lines at which something is changed in a loop that walks it."""
+    """The lines at which something is changed in a loop that walks it, or that walks another field of its object."""
     found = []
     for function in ast.walk(tree):
         if isinstance(function, SCOPES):
             root = names_of_one(function)
-            for several, inner in loops(function):
-                roots = [root(place) for place in several]
-                found.extend([line for line, place in changed(inner) if root(place) in roots])
+            for things, inner in loops(function):
+                roots = {root(place) for thing in things for place in places(thing)}
+                above = owners(things)
+                for line, thing in changed(inner):
+                    if roots & {root(place) for place in places(thing)} or above & owners([thing]):
+                        found.append(line)
     return sorted(set(found))
 
 
@@ -140,6 +160,28 @@ class Walked(unittest.TestCase):
             self.assertEqual(self.lines(f"def f(self, xs, a, other):\n    {head}\n        {row}\n"), [3], (head, row))
         self.assertEqual(self.lines("def f(xs):\n    return [xs.pop() for k in xs]\n"), [2])
         self.assertEqual(self.lines("def f(xs):\n    ys = xs\n    for k in xs:\n        ys.append(k)\n"), [4])
+
+    def test_fields_of_one_object(self):
+        """Rows that walk a field and change another one; the first one had this form, the walk of `list` has not."""
+        for walk, due in [("enumerate(self._nodes)", [5]), ("enumerate(list(self._nodes))", []),
+                          ("list(enumerate(self._nodes))", [])]:
+            self.assertEqual(self.lines(f"""\
+                def f(self):
+                    due = [(0, ())]
+                    for place, (binders, head, _) in {walk}:
+                        side, above = due.pop()
+                        self._rows.append((side, head, above))
+                        due.extend([(side, above)])
+                """), due)
+        rows = ["self.ys.append(k)", "self.ys[k] = 1", "self.ys[0].append(k)", "self.ys += [k]", "del self.ys[0]",
+                "heappush(self.ys, k)", "(a or self.ys).pop()"]
+        let = ["other.ys.append(k)", "self.zs.ys.append(k)", "a.append(k)", "self.ys = [k]", "self.ys.count(k)"]
+        for head in ["enumerate(self.xs)", "self.xs", "zip(b, self.xs)", "reversed(self.xs)", "self.xs or b",
+                     "enumerate(b if a else self.xs)", "enumerate(self.xs[0])", "self.xs.items()"]:
+            for row in rows + let:
+                text = f"def f(self, xs, a, b, other):\n    for k in {head}:\n        {row}\n"
+                self.assertEqual(self.lines(text), [3] if row in rows else [], (head, row))
+        self.assertEqual(self.lines("def f(self):\n    return [self.ys.pop() for k in enumerate(self.xs)]\n"), [2])
 
     def test_what_is_let(self):
         for head, row in [("for k in list(xs):", "xs.append(k)"), ("for k in xs:", "a.append(k)"),

@@ -86,7 +86,7 @@ class Cutting:
 
     def _tell_sides(self):
         due = [(FAR, ())]
-        for place, (binders, head, _) in enumerate(self._nodes):
+        for place, (binders, head, _) in enumerate(list(self._nodes)):
             side, above = due.pop()
             bound = self._numbers.some(binders)
             for one in bound:
